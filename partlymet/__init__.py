@@ -1,0 +1,1 @@
+"""Partlymet: programs whose pointers may meet."""
