@@ -9,12 +9,7 @@ from partlymet.running import ending
 
 def parting(p, q, *, under=None):
     """The nearest places that keep the contract and from which the outcomes are not equal, or None."""
-    facts = agreed([p, q], under)
-    width, far, modulus = measures([p, q], [facts])
-    for places in near_places(len(p.pointers), width, far, modulus):
-        if parted(p, q, facts, places):
-            return places
-    return None
+    return nearest_parting(p, q, agreed([p, q], under))
 
 
 def alike(p, q, *, under=None):
@@ -39,11 +34,11 @@ def bad_distances(p, q, low, high, *, under=None):
     return bad
 
 
-def agreed(programs, under):
-    """The contract of a question about programs, if all have the same pointers."""
-    pointers = programs[0].pointers
+def agreed(things, under):
+    """The contract of a question about programs and contracts, if all have the same pointers."""
+    pointers = things[0].pointers
     facts = Contract(pointers, "") if under is None else under
-    if not all([other.pointers == pointers for other in [*programs, facts]]):
+    if not all([other.pointers == pointers for other in [*things, facts]]):
         raise OtherPointers()
     return facts
 
@@ -56,6 +51,15 @@ def measures(programs, contracts):
     return high - low, far_of(both), modulus_of(both)
 
 
+def nearest_parting(p, q, facts):
+    """What `parting` tells, whatever the pointers of the two programs and the contract are called."""
+    width, far, modulus = measures([p, q], [facts])
+    for places in near_places(len(facts.pointers), width, far, modulus):
+        if parted(p, q, facts, places):
+            return places
+    return None
+
+
 def parted(p, q, facts, places):
     """Whether the places keep the contract, and the outcomes from there are not equal."""
-    return facts.keeps(places) and ending(p.parts, places) != ending(q.parts, places)
+    return facts.keeps(places) and ending(p.body, places) != ending(q.body, places)

@@ -2,35 +2,32 @@
 
 from partlymet.cases import near_places
 from partlymet.errors import BadContract, OtherPointers
-from partlymet.facts import far_of, modulus_of, read_fact
+from partlymet.facts import all_hold, far_of, modulus_of, read_fact
 from partlymet.texts import check_places, lines_of, read_pointers
 
 MOST_FACTS = 12
 
 
 class Contract:
-    """A contract over some pointers."""
+    """A contract over some pointers. Its `rows` are the facts that its lines tell."""
 
     def __init__(self, pointers, text):
         self.pointers = read_pointers(pointers)
         self.text = text
         self.lines = tuple(lines_of(text))
-        self.facts = read_facts(self.lines, self.pointers)
-        self.far = far_of(self.facts)
-        self.modulus = modulus_of(self.facts)
+        self.rows = read_facts(self.lines, self.pointers)
+        self.far = far_of(self.rows)
+        self.modulus = modulus_of(self.rows)
 
     def keeps(self, places):
         """Whether the places keep the contract."""
         check_places(self.pointers, places)
-        for fact in self.facts:
-            if not fact.holds(places):
-                return False
-        return True
+        return all_hold(self.rows, places)
 
     def broken(self, places):
         """The indexes of the lines that are false of the places."""
         check_places(self.pointers, places)
-        return [index for index, fact in enumerate(self.facts) if not fact.holds(places)]
+        return [index for index, fact in enumerate(self.rows) if not fact.holds(places)]
 
     def nearest(self):
         """The nearest places that keep the contract, or None."""
@@ -41,14 +38,7 @@ class Contract:
 
     def follows(self, line):
         """Whether a fact follows from the contract."""
-        fact = read_fact(line.split(" "), self.pointers)
-        if fact is None:
-            raise BadContract(1)
-        far, modulus = far_of([self, fact]), modulus_of([self, fact])
-        for places in near_places(len(self.pointers), 0, far, modulus):
-            if not fact.holds(places) and self.keeps(places):
-                return False
-        return True
+        return implied(self, fact_contract(self.pointers, line))
 
     def idle(self):
         """The indexes of the lines that follow from all other lines together."""
@@ -63,11 +53,7 @@ class Contract:
         """Whether all places that keep this contract keep the other one."""
         if self.pointers != other.pointers:
             raise OtherPointers()
-        far, modulus = far_of([self, other]), modulus_of([self, other])
-        for places in near_places(len(self.pointers), 0, far, modulus):
-            if self.keeps(places) and not other.keeps(places):
-                return False
-        return True
+        return implied(self, other)
 
     def same(self, other):
         """Whether each of the two contracts implies the other one."""
@@ -84,23 +70,50 @@ class Contract:
             raise OtherPointers()
         added = [index for index, line in enumerate(other.lines) if line not in self.lines]
         lines = self.lines + tuple([other.lines[index] for index in added])
-        facts = self.facts + tuple([other.facts[index] for index in added])
-        # The lines are read already, and there may be more of them than can be read at once.
-        both = Contract(self.pointers, "")
-        both.text = "\n".join(lines)
-        both.lines = lines
-        both.facts = facts
-        both.far = far_of(facts)
-        both.modulus = modulus_of(facts)
-        return both
+        rows = self.rows + tuple([other.rows[index] for index in added])
+        return joined_lines(self.pointers, lines, rows)
 
 
 def read_facts(lines, pointers):
     """The facts of the lines of a contract."""
-    facts = []
+    rows = []
     for index, line in enumerate(lines):
         fact = read_fact(line.split(" "), pointers)
         if fact is None or line in lines[:index] or index == MOST_FACTS:
             raise BadContract(index + 1)
-        facts.append(fact)
-    return tuple(facts)
+        rows.append(fact)
+    return tuple(rows)
+
+
+def joined_lines(pointers, lines, rows):
+    """The contract of lines that are read already: there may be more of them than can be read at once."""
+    joined = Contract(pointers, "")
+    joined.text = "\n".join(lines)
+    joined.lines = lines
+    joined.rows = rows
+    joined.far = far_of(rows)
+    joined.modulus = modulus_of(rows)
+    return joined
+
+
+def fact_contract(pointers, text):
+    """The contract of a single fact."""
+    fact = read_fact(text.split(" "), pointers)
+    if fact is None:
+        raise BadContract(1)
+    return joined_lines(pointers, (text,), (fact,))
+
+
+def without_fact(contract, index):
+    """The contract of the other lines."""
+    lines, rows = contract.lines, contract.rows
+    return joined_lines(contract.pointers, lines[:index] + lines[index + 1:], rows[:index] + rows[index + 1:])
+
+
+def implied(one, other):
+    """Whether all places that keep one contract keep the other one, whatever their pointers are called."""
+    far, modulus = far_of([one, other]), modulus_of([one, other])
+    for places in near_places(len(one.pointers), 0, far, modulus):
+        if one.keeps(places) and not other.keeps(places):
+            return False
+    return True

@@ -10,22 +10,22 @@ MODULI = (2, 4, 8)
 class Fact:
     """A fact as it was read.
 
-    `first` and `second` are indexes of pointers (`first` is None where the place of one pointer
-    is meant); those of `apart` are spots. `numbers` are what the fact says of them. `spans` are
-    the rows of cells that an `apart` speaks of: each a pointer, a shift and a length.
+    `left` and `right` are indexes of pointers (`left` is None where the place of one pointer is
+    meant); those of `apart` are spots. `numbers` are what the fact says of them. `spans` are the
+    rows of cells that an `apart` speaks of: each a pointer, a shift and a length.
     """
 
-    def __init__(self, word, first, second, numbers):
+    def __init__(self, word, left, right, numbers):
         self.word = word
-        self.first = first
-        self.second = second
+        self.left = left
+        self.right = right
         self.numbers = numbers
         self.spans = ()
         self.far = 0
         self.modulus = 1
         if word == "apart":
-            self.spans = (first + (numbers[0],), second + (numbers[1],))
-            self.far = numbers[0] + numbers[1] + abs(first[1]) + abs(second[1])
+            self.spans = (left + (numbers[0],), right + (numbers[1],))
+            self.far = numbers[0] + numbers[1] + abs(left[1]) + abs(right[1])
         elif word == "by":
             self.modulus = numbers[0]
         else:
@@ -37,9 +37,9 @@ class Fact:
             (one, ahead, many), (other, behind, most) = self.spans
             start, begin = places[one] + ahead, places[other] + behind
             return start + many <= begin or begin + most <= start
-        distance = places[self.second]
-        if self.first is not None:
-            distance = distance - places[self.first]
+        distance = places[self.right]
+        if self.left is not None:
+            distance = distance - places[self.left]
         if self.word == "by":
             return distance % self.numbers[0] == self.numbers[1]
         if self.word == "from":
@@ -90,12 +90,20 @@ def read_remainder(first, second, words):
     return None if remainder is None else Fact("by", first, second, (modulus, remainder))
 
 
-def far_of(facts):
-    """The greatest far of facts, 0 if there are none."""
-    return max([fact.far for fact in facts], default=0)
+def all_hold(facts, places):
+    """Whether all facts are true of the places."""
+    for fact in facts:
+        if not fact.holds(places):
+            return False
+    return True
 
 
-def modulus_of(facts):
-    """The least common multiple of the moduli of facts, 1 if there are none."""
+def far_of(things):
+    """The greatest far of facts, contracts and programs, 0 if there are none."""
+    return max([thing.far for thing in things], default=0)
+
+
+def modulus_of(things):
+    """The least common multiple of the moduli of facts, contracts and programs, 1 if there are none."""
     # Of 1, 2, 4 and 8 each divides the greater ones, so the greatest one is it.
-    return max([fact.modulus for fact in facts], default=1)
+    return max([thing.modulus for thing in things], default=1)

@@ -35,12 +35,17 @@ MOST_SET = 8
 MOST_GIVEN = 4
 
 
-def read_line(line, pointers):
-    """The first word of a line and a tuple of what the others tell, or None if it has no right form."""
+def read_line(line, pointers, functions):
+    """The first word of a line and a tuple of what the others tell, or None if it has no right form.
+
+    `functions` is a dict from names to the functions that may be called.
+    """
     words = line.split(" ")
     if words[0] == "when":
         fact = read_fact(words[1:], pointers)
         return None if fact is None else ("when", (fact,))
+    if words[0] == "call":
+        return read_call(words[1:], pointers, functions)
     kinds = kinds_of(words[0], len(words) - 1)
     if kinds is None:
         return None
@@ -48,6 +53,17 @@ def read_line(line, pointers):
     if None in told:
         return None
     return (words[0], tuple([one for kind, one in zip(kinds, told) if kind not in FIXED]))
+
+
+def read_call(words, pointers, functions):
+    """A line `call`, which tells the name, the function and a tuple of the spots, or None."""
+    if not words or words[0] not in functions:
+        return None
+    function = functions[words[0]]
+    spots = tuple([read_spot(word, pointers) for word in words[1:]])
+    if None in spots or len(spots) != len(function.pointers):
+        return None
+    return ("call", (words[0], function, spots))
 
 
 def kinds_of(word, many):

@@ -18,10 +18,10 @@ SETTING = ("input", "load", "set", "join", "part")
 USED = {"store": (0, 1), "each": (1, 2), "fill": (1, 2), "give": (0, 4), "join": (1, 3), "part": (1, 2)}
 
 
-def read_rows(pointers, text):
+def read_rows(pointers, text, functions):
     """The lines of a program as they are read, and a dict of the widths of its registers."""
     lines = lines_of(text)
-    placed, around = placed_rows(formed_rows(lines, pointers))
+    placed, around = placed_rows(formed_rows(lines, pointers, functions))
     used, widths = used_rows(placed)
     if used < len(lines):
         raise BadProgram(used + 1)
@@ -30,11 +30,11 @@ def read_rows(pointers, text):
     return placed, widths
 
 
-def formed_rows(lines, pointers):
+def formed_rows(lines, pointers, functions):
     """The lines from the top that have a right form."""
     rows = []
     for line in lines[:MOST_LINES]:
-        row = read_line(line, pointers)
+        row = read_line(line, pointers, functions)
         if row is None:
             return rows
         rows.append(row)

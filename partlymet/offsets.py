@@ -35,6 +35,8 @@ def line_moves(line, pointer):
         tested = spans_moves(line.told[0].spans, pointer)
         either = either_moves(block_moves(line.inner, pointer), block_moves(line.other, pointer))
         return both_moves(tested, either)
+    if line.word == "call":
+        return call_moves(line, pointer)
     return spans_moves([span for span in (line.source, line.target) if span is not None], pointer)
 
 
@@ -65,4 +67,15 @@ def spans_moves(spans, pointer):
         if place == pointer:
             ends.append(shift)
             ends.append(shift + many)
+    return (0, 0, min(ends), max(ends))
+
+
+def call_moves(line, pointer):
+    """What a call means for a pointer of the caller, which it does not move."""
+    _, function, spots = line.told
+    ends = [0]
+    for (place, shift), (least, most) in zip(spots, function.program.body.offsets):
+        if place == pointer:
+            ends.append(shift + least)
+            ends.append(shift + most)
     return (0, 0, min(ends), max(ends))

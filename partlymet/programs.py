@@ -1,10 +1,7 @@
 """Programs, and the outcomes of their runs."""
 
-from partlymet.blocks import block_of
+from partlymet.bodies import guarded_body, joined_body, read_body
 from partlymet.errors import BadCount, HasRegisters, OtherPointers
-from partlymet.facts import far_of, modulus_of
-from partlymet.layout import read_rows
-from partlymet.offsets import offsets_of, reach_of
 from partlymet.running import ending, text_of, whole_run
 from partlymet.texts import check_places, read_pointers
 
@@ -12,25 +9,20 @@ MOST_TIMES = 5
 
 
 class Program:
-    """A program over some pointers. Its `parts` are blocks that are done one after another."""
+    """A program over some pointers. Its `body` is what it does."""
 
     def __init__(self, pointers, text):
         self.pointers = read_pointers(pointers)
         self.text = text
-        rows, widths = read_rows(self.pointers, text)
-        block, _ = block_of(rows, widths, 0)
-        tests = [told[0] for word, told in rows if word == "when"]
-        self.parts = (block,)
-        self.offsets = offsets_of(block, len(self.pointers))
-        self.reach = reach_of(self.offsets)
-        self.far = far_of(tests)
-        self.modulus = modulus_of(tests)
-        self.has_registers = any([word in ("input", "give") for word, _ in rows])
+        self.body = read_body(self.pointers, text, {})
+        self.reach = self.body.reach
+        self.far = self.body.far
+        self.modulus = self.body.modulus
 
     def run(self, places):
         """The outcome of the run from these places."""
         check_places(self.pointers, places)
-        given, cells = ending(self.parts, places)
+        given, cells = ending(self.body, places)
         texts = [tuple([text_of(content) for content in row]) for row in given]
         return Outcome(tuple(texts), {cell: text_of(cells[cell]) for cell in sorted(cells)})
 
@@ -40,31 +32,31 @@ class Program:
     def steps(self, places):
         """Yields the line, the places and the written cells behind each deed."""
         check_places(self.pointers, places)
-        log = whole_run(self.parts, places, True).log
+        log = whole_run(self.body, places, True).log
         for line, now, _, written in log:
-            yield line, now, written
+            yield line.number, now, [(cell, text_of(content)) for cell, content in written]
 
     def reads(self, places):
         """The cells that are read in the run from these places."""
         check_places(self.pointers, places)
-        log = whole_run(self.parts, places, True).log
+        log = whole_run(self.body, places, True).log
         return sorted({cell for _, _, read, _ in log for cell in read})
 
     def writes(self, places):
         """The cells that are written in the run from these places."""
         check_places(self.pointers, places)
-        log = whole_run(self.parts, places, True).log
+        log = whole_run(self.body, places, True).log
         return sorted({cell for _, _, _, written in log for cell, _ in written})
 
     def __add__(self, other):
         if self.pointers != other.pointers:
             raise OtherPointers()
-        if self.has_registers or other.has_registers:
+        if self.body.has_registers or other.body.has_registers:
             raise HasRegisters()
         return put_together([self, other])
 
     def __mul__(self, other):
-        if self.has_registers:
+        if self.body.has_registers:
             raise HasRegisters()
         if not 1 <= other <= MOST_TIMES:
             raise BadCount(other)
@@ -74,20 +66,33 @@ class Program:
         return isinstance(other, Program) and self.pointers == other.pointers and self.text == other.text
 
 
+def body_program(pointers, text, body):
+    """The program that does what this body does."""
+    program = Program(pointers, "")
+    program.text = text
+    program.body = body
+    program.reach = body.reach
+    program.far = body.far
+    program.modulus = body.modulus
+    return program
+
+
+def read_program(pointers, text, functions):
+    """The program of a text, which may call these functions."""
+    names = read_pointers(pointers)
+    return body_program(names, text, read_body(names, text, functions))
+
+
 def put_together(programs):
     """The program that does some programs over the same pointers one after another."""
-    pointers = programs[0].pointers
-    offsets = [
-        reach_of([program.offsets[index] for program in programs]) for index in range(len(pointers))
-    ]
-    whole = Program(pointers, "")
-    whole.text = "\n".join([program.text for program in programs])
-    whole.parts = tuple([block for program in programs for block in program.parts])
-    whole.offsets = tuple(offsets)
-    whole.reach = reach_of(offsets)
-    whole.far = far_of(programs)
-    whole.modulus = modulus_of(programs)
-    return whole
+    text = "\n".join([program.text for program in programs if program.text])
+    return body_program(programs[0].pointers, text, joined_body([program.body for program in programs]))
+
+
+def guarded_program(p, q, chosen, options):
+    """The program that does q if the first places keep the chosen facts of the options, and p otherwise."""
+    # It has no text that says what it does; the empty one does not grow where guards stand in guards.
+    return body_program(p.pointers, "", guarded_body(p.body, q.body, chosen, options))
 
 
 class Outcome:

@@ -4,6 +4,8 @@ What a cell holds is kept as a text, but what cell C held at the beginning as th
 cells that are only moved need no texts, and two contents are equal if what is kept is equal.
 """
 
+from partlymet.bodies import blocks_at
+
 
 class Run:
     """A run on its way.
@@ -13,10 +15,10 @@ class Run:
     cells that it read, and pairs of the cells that it wrote and what they hold then.
     """
 
-    def __init__(self, places, watched):
-        self.first = tuple(places)
+    def __init__(self, places, cells, watched):
+        self.origin = tuple(places)
         self.places = list(places)
-        self.cells = {}
+        self.cells = cells
         self.held = {}
         self.given = ()
         self.watched = watched
@@ -24,7 +26,7 @@ class Run:
 
     def begin(self):
         """Sets the pointers to the first places again, without registers."""
-        self.places = list(self.first)
+        self.places = list(self.origin)
         self.held = {}
 
     def row(self, span):
@@ -44,17 +46,20 @@ class Run:
         for cell, content in zip(self.row(span), contents):
             cells[cell] = content
 
-    def note(self, line):
-        """Keeps what a deed has done."""
-        read = [] if line.source is None else self.row(line.source)
-        written = [] if line.target is None else self.row(line.target)
-        texts = [(cell, text_of(self.cells[cell])) for cell in written]
-        self.log.append((line.number, tuple(self.places), read, texts))
+    def note(self, line, read, written):
+        """Keeps what a deed has done, with what the written cells hold now."""
+        cells = self.cells
+        self.log.append((line, tuple(self.places), read, [(cell, cells[cell]) for cell in written]))
 
 
 def text_of(content):
     """The text of what a cell holds."""
     return f"@{content}" if isinstance(content, int) else content
+
+
+def spot_cells(places, spots):
+    """The cells of spots, if the pointers point at these places."""
+    return [places[pointer] + shift for pointer, shift in spots]
 
 
 def do_load(run, line):
@@ -127,6 +132,27 @@ DEEDS = {
 }
 
 
+def do_line(run, line):
+    """Does a deed that is no call."""
+    deed = DEEDS[line.word]
+    deed(run, line)
+    if run.watched:
+        read = [] if line.source is None else run.row(line.source)
+        written = [] if line.target is None else run.row(line.target)
+        run.note(line, read, written)
+
+
+def do_call(run, line):
+    """Does the program of a function on the same memory."""
+    _, function, spots = line.told
+    inner = Run(spot_cells(run.places, spots), run.cells, run.watched)
+    do_parts(inner, function.program.body.parts)
+    if run.watched:
+        read = sorted({cell for _, _, cells, _ in inner.log for cell in cells})
+        written = sorted({cell for _, _, _, pairs in inner.log for cell, _ in pairs})
+        run.note(line, read, written)
+
+
 def do_block(run, block):
     """Does the lines of a block."""
     for line in block:
@@ -140,23 +166,27 @@ def do_block(run, block):
             run.held[name] = [f"{name}.{index}" for index in range(width)]
         elif line.word == "give":
             run.given = tuple([tuple(run.held[name]) for name in line.told])
+        elif line.word == "call":
+            do_call(run, line)
         else:
-            deed = DEEDS[line.word]
-            deed(run, line)
-            if run.watched:
-                run.note(line)
+            do_line(run, line)
 
 
-def whole_run(parts, places, watched):
-    """The run of the blocks of a program, one after another, from some places."""
-    run = Run(places, watched)
-    for block in parts:
+def do_parts(run, parts):
+    """Does the parts of a body."""
+    for block in blocks_at(parts, run.origin):
         run.begin()
         do_block(run, block)
+
+
+def whole_run(body, places, watched):
+    """The run of a body from some places."""
+    run = Run(places, {}, watched)
+    do_parts(run, body.parts)
     return run
 
 
-def ending(parts, places):
+def ending(body, places):
     """What a run gives and what the changed cells hold, both as they are kept."""
-    run = whole_run(parts, places, False)
+    run = whole_run(body, places, False)
     return run.given, {cell: content for cell, content in run.cells.items() if content != cell}

@@ -18,6 +18,11 @@ def lines_of(text):
     return text.split("\n") if text else []
 
 
+def first_word(line):
+    """What stands ahead of the first space of a line."""
+    return line.split(" ")[0]
+
+
 def is_name(word):
     """Whether a word is a name."""
     if not 1 <= len(word) <= LONGEST_NAME or word in RESERVED:
@@ -56,7 +61,12 @@ def read_number(word, low, high):
 
 def read_pointer(word, pointers):
     """The index of the pointer of this name, or None."""
-    return pointers.index(word) if word in pointers else None
+    # What operators run calls no method by a name that objects of the package have as an attribute
+    # (`index` is one, of the errors): so the pointers are gone through here.
+    for index, name in enumerate(pointers):
+        if name == word:
+            return index
+    return None
 
 
 def read_spot(word, pointers):

@@ -4,13 +4,17 @@ import random
 
 
 class Maker:
-    """Makes right texts over some pointers."""
+    """Makes right texts over some pointers.
 
-    def __init__(self, seed, pointers, far=3, moduli=(2, 4, 8)):
+    `functions` may be called: a dict from names to triples with the pointers first.
+    """
+
+    def __init__(self, seed, pointers, far=3, moduli=(2, 4, 8), functions=None):
         self.chance = random.Random(seed)
         self.pointers = pointers
         self.far = far
         self.moduli = moduli
+        self.functions = functions or {}
 
     def spot(self, pointer=None):
         pointer = pointer or self.chance.choice(self.pointers)
@@ -85,7 +89,12 @@ class Maker:
         narrow = [name for name in sorted(known) if known[name] == 1]
         if narrow:
             forms.append("fill")
+        if self.functions:
+            forms += ["call"] * 5
         form = pick.choice(forms)
+        if form == "call":
+            name = pick.choice(sorted(self.functions))
+            return " ".join(["call", name] + [self.spot() for _ in self.functions[name][0]])
         if form in ("copy", "up", "down"):
             return f"{form} {pick.randint(1, 3)} from {self.spot()} to {self.spot()}"
         if form == "step":

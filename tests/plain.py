@@ -1,9 +1,11 @@
 """A plain second reading of the document, to test the package against.
 
 It follows the words of the points one by one, on the texts themselves, and takes its time. It
-reads only texts that are right.
+reads only texts that are right. Functions are a dict from names to triples: the pointers, the text
+of the program, and the text of the contract.
 """
 
+import functools
 import itertools
 
 
@@ -38,8 +40,15 @@ def keeps(text, pointers, places):
     return all(fact_is_true(line, pointers, places) for line in lines_of(text))
 
 
+class Line(str):
+    """A line that knows its number."""
+
+
 def lines_of(text):
-    return text.split("\n") if text else []
+    lines = [Line(line) for line in text.split("\n")] if text else []
+    for at, line in enumerate(lines):
+        line.number = at + 1
+    return lines
 
 
 def fact_far(line):
@@ -83,11 +92,23 @@ def tree_of(lines):
     return block
 
 
-class Walker:
-    """A run of a text from places."""
+@functools.cache
+def tree(text):
+    """The lines of a text as such lists."""
+    return tree_of(lines_of(text))
 
-    def __init__(self, pointers, text, places, cells=None):
+
+class Walker:
+    """A run of a text from places.
+
+    `steps` are what `steps` of a program tells, `sources` a dict from the numbers of lines to the
+    numbers of the lines that wrote what they read, `called` the number, the function and the
+    cells of each call.
+    """
+
+    def __init__(self, pointers, text, places, cells=None, functions=None):
         self.pointers = list(pointers)
+        self.functions = functions
         self.at = dict(zip(pointers, places))
         self.cells = {} if cells is None else cells
         self.held = {}
@@ -95,7 +116,13 @@ class Walker:
         self.read = set()
         self.written = set()
         self.lines_done = 0
-        self.walk(tree_of(lines_of(text)))
+        self.number = 0
+        self.touched = set()
+        self.writers = {}
+        self.sources = {}
+        self.called = []
+        self.steps = []
+        self.walk(tree(text))
 
     def walk(self, block):
         for row in block:
@@ -110,15 +137,36 @@ class Walker:
                 self.walk(row[1] if fact_is_true(row[0][5:], self.pointers, now) else row[2])
                 self.lines_done += 1
             else:
+                self.number = row[0].number
+                self.touched = set()
                 getattr(self, "do_" + words[0])(*words[1:])
+                if words[0] not in ("input", "give"):
+                    now = tuple(self.at[name] for name in self.pointers)
+                    self.steps.append((self.number, now, [(cell, self.cells[cell]) for cell in sorted(self.touched)]))
 
     def get(self, cell):
         self.read.add(cell)
+        self.sources.setdefault(self.number, set()).add(self.writers.get(cell, 0))
         return self.cells.get(cell, "@" + str(cell))
 
     def put(self, cell, text):
-        self.written.add(cell)
+        self.wrote(cell)
         self.cells[cell] = text
+
+    def wrote(self, cell):
+        self.written.add(cell)
+        self.touched.add(cell)
+        self.writers[cell] = self.number
+
+    def do_call(self, name, *spots):
+        pointers, text, _ = self.functions[name]
+        cells = tuple(cell_of(spot, self.at) for spot in spots)
+        self.called.append((self.number, name, cells))
+        inner = Walker(pointers, text, cells, self.cells, self.functions)
+        self.lines_done += inner.lines_done
+        self.read |= inner.read
+        for cell in inner.written:
+            self.wrote(cell)
 
     def do_input(self, x, w):
         self.held[x] = [x + "." + str(k) for k in range(int(w))]
@@ -169,13 +217,13 @@ class Walker:
         return {cell: text for cell, text in self.cells.items() if text != "@" + str(cell)}
 
 
-def outcome(pointers, text, places):
+def outcome(pointers, text, places, functions=None):
     """The rows that are given and the changed cells."""
-    walker = Walker(pointers, text, places)
+    walker = Walker(pointers, text, places, None, functions)
     return walker.given, walker.changed()
 
 
-def offsets_on_all_ways(pointers, text):
+def offsets_on_all_ways(pointers, text, functions=None):
     """All offsets of [12] by following each way: a dict from the pointers to sets."""
     offsets = {name: {0} for name in pointers}
 
@@ -183,6 +231,13 @@ def offsets_on_all_ways(pointers, text):
         name = spot.split("+")[0].split("-")[0]
         start = cell_of(spot, shifts)
         offsets[name] |= {start, start + many}
+
+    def call_at(shifts, called, spots):
+        names, body, _ = functions[called]
+        inner = offsets_on_all_ways(names, body, functions)
+        for spot, name in zip(spots, names):
+            for offset in inner[name]:
+                spot_at(shifts, spot, offset)
 
     def follow(block, shifts, widths):
         """All shifts behind the block, as a list of dicts."""
@@ -214,9 +269,11 @@ def offsets_on_all_ways(pointers, text):
         elif words[0] in ("copy", "up", "down"):
             spot_at(shifts, words[3], int(words[1]))
             spot_at(shifts, words[5], int(words[1]))
+        elif words[0] == "call":
+            call_at(shifts, words[1], words[2:])
         return [shifts]
 
-    follow(tree_of(lines_of(text)), {name: 0 for name in pointers}, widths_of(text))
+    follow(tree(text), {name: 0 for name in pointers}, widths_of(text))
     return offsets
 
 
@@ -236,20 +293,38 @@ def widths_of(text):
     return widths
 
 
-def all_cases(pointers, programs, contracts, wider=0):
+def tests_with_calls(text, functions):
+    """The tests of a program, of all functions that it calls, also through others, and their contracts."""
+    facts = tests_of(text)
+    for line in lines_of(text):
+        if line.startswith("call "):
+            _, body, needed = functions[line.split(" ")[1]]
+            facts += tests_with_calls(body, functions) + lines_of(needed)
+    return facts
+
+
+def all_cases(pointers, programs, contracts, wider=0, functions=None):
     """The places of [12] for texts of programs and contracts, in the order of [6].
 
     With `wider` also places with gaps that are wider by so much.
     """
-    reach = [offset for text in programs for row in offsets_on_all_ways(pointers, text).values() for offset in row]
-    facts = [line for text in contracts for line in lines_of(text)]
-    facts += [line for text in programs for line in tests_of(text)]
+    reach, facts = [], [line for text in contracts for line in lines_of(text)]
+    for text in programs:
+        offsets = offsets_on_all_ways(pointers, text, functions)
+        reach += [offset for name in offsets for offset in offsets[name]]
+        facts += tests_with_calls(text, functions)
+    return sized_cases(len(pointers), reach, facts, wider)
+
+
+def sized_cases(many, reach, facts, wider=0):
+    """The places of [12] for all offsets and facts of a question."""
     far = max([fact_far(line) for line in facts], default=0)
     modulus = max([fact_modulus(line) for line in facts], default=1)
     gap = 1 + max(reach, default=0) - min(reach, default=0) + far + modulus - 1
-    return cases(len(pointers), gap + wider, modulus)
+    return cases(many, gap + wider, modulus)
 
 
+@functools.cache
 def cases(many, gap, modulus):
     """All places whose least one is from 0 to modulus - 1, with gaps of at most `gap`."""
     rows = set()
@@ -260,9 +335,10 @@ def cases(many, gap, modulus):
     return sorted(rows, key=lambda row: (max(row) - min(row), min(row), row))
 
 
-def first_parting(pointers, one, two, under="", wider=0):
+def first_parting(pointers, one, two, under="", wider=0, functions=None):
     """The nearest places that keep a contract and from which the outcomes are not equal, or None."""
-    for places in all_cases(pointers, [one, two], [under], wider):
-        if keeps(under, pointers, places) and outcome(pointers, one, places) != outcome(pointers, two, places):
-            return places
+    for places in all_cases(pointers, [one, two], [under], wider, functions):
+        if keeps(under, pointers, places):
+            if outcome(pointers, one, places, functions) != outcome(pointers, two, places, functions):
+                return places
     return None

@@ -26,6 +26,7 @@ FORMS = {
     "end": "end",
     "times": f"times {NUMBER}",
     "give": f"give(( {NAME})+)",
+    "call": f"call {NAME}(( {SPOT})+)",
 }
 MANY = range(1, 17)
 
@@ -67,8 +68,9 @@ def wrong_fact(pointers, text):
 class Reader:
     """Reads line after line, and stops at the first wrong one."""
 
-    def __init__(self, pointers):
+    def __init__(self, pointers, functions=None):
         self.pointers = pointers
+        self.functions = functions or {}
         self.widths = {}
         self.blocks = [set()]
         self.openers = []
@@ -137,6 +139,14 @@ class Reader:
             return False
         return right_spot(name, shift, self.pointers)
 
+    def see_call(self, name, spots, *_):
+        if name not in self.functions:
+            return False
+        words = [re.fullmatch(SPOT, word) for word in spots.split()]
+        if len(words) != len(self.functions[name][0]):
+            return False
+        return all(right_spot(word[1], word[2], self.pointers) for word in words)
+
     def see_step(self, p, d):
         return p in self.pointers and -30 <= int(d) <= 30
 
@@ -174,9 +184,9 @@ class Reader:
         return not self.openers and len(names) <= 4 and self.known(*names)
 
 
-def wrong_line(pointers, text):
+def wrong_line(pointers, text, functions=None):
     """The first wrong line of a program, the number of lines plus 1 if an `end` is lacking, or None."""
-    reader = Reader(pointers)
+    reader = Reader(pointers, functions)
     lines = text.split("\n") if text else []
     for at, line in enumerate(lines):
         if reader.wrong(line):

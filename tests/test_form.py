@@ -7,7 +7,7 @@ import pathlib
 import unittest
 import warnings
 
-from partlymet import compare, contracts, programs
+from partlymet import benches, books, compare, contracts, errors, lines, needs, programs
 
 FOLDER = pathlib.Path(__file__).resolve().parent.parent / "partlymet"
 BUILTINS = set("""len range enumerate zip min max sum abs sorted reversed int str bool list tuple dict set isinstance ord
@@ -25,7 +25,7 @@ SPECIAL = set("""__init__ __eq__ __repr__ __str__ __len__ __enter__ __exit__ __c
 __contains__ __getitem__ __setitem__""".split())
 BARRED = (
     ast.AsyncFunctionDef, ast.AsyncFor, ast.AsyncWith, ast.Await, ast.Global, ast.GeneratorExp, ast.Lambda, ast.Div,
-    ast.Try, ast.MatMult, ast.AnnAssign,
+    ast.MatMult, ast.AnnAssign,
 )
 WORDS = "mro elements open input law eval exec id type vars dir help exit sys os".split()
 INTERFACE = {
@@ -35,6 +35,13 @@ INTERFACE = {
         "Outcome": "changed __getitem__ __contains__ __len__ __eq__",
     },
     compare: {"parting": "", "alike": "", "bad_distances": ""},
+    lines: {"idle_lines": "", "sources": "", "may_swap": "", "copy_ways": "", "thinned": ""},
+    needs: {"needs": "", "stuck": "", "guarded": ""},
+    books: {
+        "Function": "__init__", "Book": "__init__ __setitem__ __getitem__ __contains__ __len__ names read",
+        "broken_calls": "", "may_replace": "", "kept_needs": "", "left_out": "",
+    },
+    benches: {"Bench": "__init__ first now facts change drop swap turn assume release used undo attempt"},
 }
 
 
@@ -68,6 +75,18 @@ class Interface(unittest.TestCase):
             (contracts.Contract, "(pointers, text)"), (programs.Program, "(pointers, text)"),
             (compare.parting, "(p, q, *, under=None)"), (compare.alike, "(p, q, *, under=None)"),
             (compare.bad_distances, "(p, q, low, high, *, under=None)"),
+            (lines.idle_lines, "(program, *, under=None)"), (lines.sources, "(program, line, *, under=None)"),
+            (lines.may_swap, "(program, line, *, under=None)"), (lines.copy_ways, "(program, line, *, under=None)"),
+            (lines.thinned, "(program, *, under=None)"), (needs.needs, "(p, q, options, *, under=None)"),
+            (needs.stuck, "(p, q, options, *, under=None)"), (needs.guarded, "(p, q, options, *, under=None)"),
+            (books.Function, "(program, needed)"), (books.Book, "()"), (books.Book.read, "(self, pointers, text)"),
+            (books.broken_calls, "(program, *, under=None)"), (books.may_replace, "(f, g)"),
+            (books.kept_needs, "(book, roots)"), (books.left_out, "(book, roots)"),
+            (benches.Bench, "(program, facts)"), (benches.Bench.change, "(self, program)"),
+            (benches.Bench.drop, "(self, line)"), (benches.Bench.swap, "(self, line)"),
+            (benches.Bench.turn, "(self, line, word)"), (benches.Bench.assume, "(self, text)"),
+            (benches.Bench.release, "(self, index)"), (benches.Bench.attempt, "(self, action)"),
+            (benches.Bench.used, "(self)"), (benches.Bench.undo, "(self)"),
         ):
             self.assertEqual(str(inspect.signature(call)), expected)
 
@@ -112,6 +131,8 @@ class Language(unittest.TestCase):
                         self.assertIn(ast.unparse(node.comparators[0]), ("None", "True", "False"))
                     if isinstance(node, ast.Raise):
                         self.assertIsInstance(node.exc, ast.Call)
+                    for handler in getattr(node, "handlers", []):
+                        self.assertIn(ast.unparse(handler.type), vars(errors))
 
     def test_module_level_is_plain(self):
         kinds = (ast.Import, ast.ImportFrom, ast.FunctionDef, ast.ClassDef, ast.Assign)
